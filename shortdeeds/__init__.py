@@ -1,0 +1,1 @@
+"""Shortdeeds: short words for great deeds."""
