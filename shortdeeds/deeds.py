@@ -9,6 +9,11 @@ def is_whole(thing):
     return isinstance(thing, int) and not isinstance(thing, bool)
 
 
+def is_whole_to(thing, most):
+    """Tell whether a thing of whatever kind is a whole number from 0 to the most."""
+    return is_whole(thing) and 0 <= thing <= most
+
+
 def is_deed(thing):
     """Tell whether a thing of whatever kind is a deed of one to five places."""
     if not isinstance(thing, tuple) or not 1 <= len(thing) <= MOST_PLACES:
@@ -32,3 +37,8 @@ def done(stand, deed):
 def undoing(deed):
     """Tell the back of a deed."""
     return tuple([deed.index(place) for place in range(len(deed))])
+
+
+def moved_places(deed):
+    """Tell the places at which a deed has another number, rising."""
+    return [place for place in range(len(deed)) if deed[place] != place]

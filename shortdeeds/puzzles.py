@@ -1,7 +1,7 @@
 """Puzzles, their stands and their words."""
 
-from shortdeeds.deeds import done, is_deed, is_deed_of, undoing
-from shortdeeds.errors import NoPuzzle, NoStand, NoWord
+from shortdeeds.deeds import done, is_deed, is_deed_of, is_whole_to, undoing
+from shortdeeds.errors import NoNumber, NoPuzzle, NoStand, NoWord
 
 MOST_DEEDS = 3
 SMALL_LETTERS = "xyz"
@@ -48,6 +48,12 @@ def need_word(thing, puzzle):
     """Refuse what is no word of the puzzle."""
     if not is_word(thing, puzzle):
         raise NoWord("a word is a text of the letters that the puzzle has")
+
+
+def need_number(thing, most):
+    """Refuse what is no whole number from 0 to the most."""
+    if not is_whole_to(thing, most):
+        raise NoNumber("a number is a whole one, from 0 to the most that is told")
 
 
 def letter_deeds(puzzle):

@@ -16,6 +16,17 @@ def words(puzzle):
     return found
 
 
+def words_within(puzzle, most):
+    """Tell the least word of each stand that comes by at most so many letters, the words in their order."""
+    deeds = letter_deeds(puzzle)
+    start = home(puzzle)
+    found = {start: ""}
+    edge = [start]
+    for _ in range(most):
+        edge = widened(found, edge, deeds)
+    return found
+
+
 def widened(found, edge, deeds):
     """Put to the found words those one letter longer than the edge's; tell the new stands."""
     # The edge stands in the order of its words, and the letters in theirs: so the

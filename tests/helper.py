@@ -105,6 +105,103 @@ def least_words(puzzle):
     return found
 
 
+def ball(puzzle, stand, most):
+    """The stands that come from a stand by words of at most so many letters."""
+    found = {stand}
+    for _ in range(most):
+        found |= {move(puzzle, one, letter) for one in found for letter in letters(puzzle)}
+    return found
+
+
+def moved_many(stand):
+    return sum(1 for place, number in enumerate(stand) if place != number)
+
+
+def keeps(deed, many):
+    """Whether a deed leaves the first so many places as they are."""
+    return all(deed[place] == place for place in range(many))
+
+
+def places_of_steps(puzzle):
+    """For each piece the places where it lies in some stand come to with all lesser pieces at home."""
+    stands = set().union(*levels(puzzle))
+    return [tuple(sorted({stand.index(piece) for stand in stands if keeps(stand, piece)}))
+            for piece in range(len(puzzle[0]))]
+
+
+def table_of_steps(puzzle):
+    """The step table of which each word is the least one of all that lead home so."""
+    found = least_words(puzzle)
+    table = []
+    for piece, places in enumerate(places_of_steps(puzzle)):
+        row = {}
+        for place in places:
+            fit = [word for deed, word in found.items() if keeps(deed, piece) and deed[piece] == place]
+            row[place] = min(fit, key=lambda word: (len(word), word))
+        table.append(row)
+    return table
+
+
+def other_tables(puzzle):
+    """Step tables of the puzzle other than the least one, made anew each time."""
+    longer = [{place: word + "xX" for place, word in row.items()} for row in table_of_steps(puzzle)]
+    around = [{place: word.swapcase()[::-1] + word * 2 for place, word in reversed(row.items())}
+              for row in table_of_steps(puzzle)]
+    found = [longer, around]
+    for piece, row in enumerate(table_of_steps(puzzle)):
+        for place in row:
+            one = table_of_steps(puzzle)
+            one[piece][place] += "XxxXXx"
+            found.append(one)
+    return found
+
+
+def no_tables(puzzle):
+    """Things that are no step table of the puzzle."""
+    table = table_of_steps(puzzle)
+    places = len(table)
+    found = things() + texts() + ["", "x", puzzle, start_of(puzzle), list(start_of(puzzle))]
+    found.extend([tuple(table), dict(enumerate(table)), table[:-1], table[1:], table + [{}], table + [{places: ""}],
+                  table + [table[-1]], [table], [], [{}] * places, [list(row) for row in table],
+                  [list(row.values()) for row in table], [list(row.items()) for row in table], [None] * places,
+                  [""] * places])
+    for piece, row in enumerate(table):
+        found.extend(table[:piece] + [other] + table[piece + 1:] for other in no_rows(puzzle, row, piece))
+    return found
+
+
+def no_rows(puzzle, row, piece):
+    """Things that are not what a step table has for the piece, where it might have the row."""
+    found = [{}, None, True, "", "x", (), [], [row], tuple(row.items()), list(row), tuple(row), 0, {"": row}]
+    strange = ([place for place in range(-1, 7) if place not in row]
+               + [None, "", "0", str(piece), (), (piece,), 10 ** 29])
+    found.extend({**row, place: word} for place in strange for word in ("", row[piece]))
+    for place, word in row.items():
+        less = {other: told for other, told in row.items() if other != place}
+        found.append(less)
+        found.extend({**less, other: word} for other in strange)
+        if place in (0, 1):
+            found.append({**less, bool(place): word})
+        wrong = [None, True, False, 0, piece, [], [word], (word,), {}, tuple(word), list(word) + [""], "w", word + "w",
+                 word + " ", " " + word, "?" * 40, start_of(puzzle)]
+        wrong.extend(letter + letter.swapcase() + word for letter in SMALL + GREAT if letter not in letters(puzzle))
+        start = start_of(puzzle)
+        for other in all_words(puzzle, 2):
+            deed = walk(puzzle, start, other)
+            if not keeps(deed, piece) or deed[piece] != place:
+                wrong.append(other)
+        found.extend({**row, place: other} for other in wrong)
+    return found
+
+
+def no_numbers(most):
+    """Things that are no whole number from 0 to the most."""
+    found = [thing for thing in things() if type(thing) is not int or not 0 <= thing <= most]
+    found.extend(texts() + ["", "x", "1", str(most), most + 1, most + 2, -1, -2, -most - 1, 10 ** 15, -(10 ** 15)])
+    found.extend([[most], (most,), {most: most}, [0, most], (0, most), (True,), [False]])
+    return found
+
+
 def things():
     """Things of whatever kind that are neither a puzzle nor a text, made anew each time."""
     return [

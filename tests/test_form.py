@@ -14,6 +14,11 @@ INTERFACE = {
     "puzzles": ("is_puzzle", "is_stand", "is_word", "home", "behind", "deed_of", "back_of", "plain"),
     "texts": ("show", "read"),
     "ways": ("reached", "least_word", "far", "counts", "farthest", "words"),
+    "bounds": ("is_height_paper", "height_paper", "plain_many", "count_bound", "sign", "signs", "is_barred",
+               "moved_bound"),
+    "halves": ("halves", "met_word", "net_bound", "net_paper"),
+    "little": ("moved", "exchange", "turned", "rings", "little_word", "learned"),
+    "steps": ("step_places", "is_step_table", "step_table", "led_home", "most_letters"),
 }
 LIBRARY = ("heapq", "math", "itertools", "collections", "__future__")
 

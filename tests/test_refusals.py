@@ -1,32 +1,75 @@
 """Points 3 to 5: what is refused and in which order, and that nothing else is changed."""
 
+import copy
+import itertools
 import unittest
 
-from shortdeeds import puzzles, texts, ways
-from shortdeeds.errors import NoPuzzle, NoStand, NoText, NoWord
+from shortdeeds import bounds, halves, little, puzzles, steps, texts, ways
+from shortdeeds.errors import NoNumber, NoPuzzle, NoStand, NoTable, NoText, NoWord
 from tests import helper
 from tests.helper import FIVE, ONE_PLACE, RING, RING_AND_SWAP
 
-# What each function is handed: p a puzzle, s a stand, w a word, t a thing of whatever kind.
+# What each function is handed: p a puzzle, s a stand, w a word, b a step table, t a thing of
+# whatever kind, 4, 5 and 9 a whole number from 0 to so many.
 KINDS = (
     (puzzles.is_stand, "tp"), (puzzles.is_word, "tp"), (puzzles.home, "p"), (puzzles.behind, "psw"),
     (puzzles.deed_of, "pw"), (puzzles.back_of, "pw"), (puzzles.plain, "pw"), (texts.show, "p"),
     (ways.reached, "p"), (ways.least_word, "ps"), (ways.far, "ps"), (ways.counts, "p"), (ways.farthest, "p"),
     (ways.words, "p"),
+    (bounds.is_height_paper, "tp"), (bounds.height_paper, "p"), (bounds.plain_many, "p9"), (bounds.count_bound, "p"),
+    (bounds.sign, "ps"), (bounds.signs, "p"), (bounds.is_barred, "ps"), (bounds.moved_bound, "ps"),
+    (halves.halves, "ps4"), (halves.met_word, "ps4"), (halves.net_bound, "tps"), (halves.net_paper, "ps44"),
+    (little.moved, "pw"), (little.exchange, "pww"), (little.turned, "pww"), (little.rings, "pw"),
+    (little.little_word, "p55"), (little.learned, "p5"),
+    (steps.step_places, "p"), (steps.is_step_table, "tp"), (steps.step_table, "p"), (steps.led_home, "pbs"),
+    (steps.most_letters, "pb"),
 )
-REFUSALS = {"s": NoStand, "w": NoWord}
+NUMBERS = "459"
+REFUSALS = {"s": NoStand, "w": NoWord, "b": NoTable, **dict.fromkeys(NUMBERS, NoNumber)}
+# Those whose answers are lists or dicts, or have such within.
+LISTS = (ways.reached, ways.counts, ways.words, bounds.height_paper, halves.halves, little.moved, little.learned,
+         steps.step_places, steps.step_table)
 
 
 def good(kind, puzzle):
+    if kind in NUMBERS:
+        return 1
+    if kind == "b":
+        return helper.table_of_steps(puzzle)
     return {"p": puzzle, "s": puzzle[0], "w": "xX", "t": "x"}[kind]
 
 
 def bad(kind, puzzle):
-    return {"s": helper.no_stands, "w": helper.no_words}[kind](puzzle)
+    if kind in NUMBERS:
+        return helper.no_numbers(int(kind))
+    return {"s": helper.no_stands, "w": helper.no_words, "b": helper.no_tables}[kind](puzzle)
 
 
 def few_bad(kind, puzzle):
-    return bad(kind, puzzle)[::17]
+    found = bad(kind, puzzle)
+    return found[::1 + len(found) // 9]
+
+
+def boxes(thing):
+    """The lists and dicts of an answer, those within it, too."""
+    if isinstance(thing, (list, tuple)):
+        within = list(thing)
+    else:
+        within = list(thing.values()) if isinstance(thing, dict) else []
+    found = [box for one in within for box in boxes(one)]
+    return found + [thing] if isinstance(thing, (list, dict)) else found
+
+
+def spoil(thing):
+    """Change all lists and dicts of an answer."""
+    for box in boxes(thing):
+        if isinstance(box, list):
+            box.reverse()
+            box[:1] = ["changed", (9, 9)]
+        else:
+            for key in list(box):
+                box[key] = "changed"
+            box[(9, 9)] = "new"
 
 
 class NoPuzzles(helper.Case):
@@ -60,80 +103,141 @@ class NoPuzzles(helper.Case):
                 self.assert_told(told, function, *right)
 
 
-class NoStandsAndNoWords(helper.Case):
+class NoStandsNoWordsNoNumbersNoTables(helper.Case):
 
-    def test_each_function_refuses_what_is_no_stand_and_what_is_no_word(self):
+    def test_each_function_refuses_what_is_none(self):
         for puzzle in (ONE_PLACE, RING, RING_AND_SWAP, ((1, 0),) * 3, FIVE):
             for function, kinds in KINDS:
                 for at, kind in enumerate(kinds):
                     if kind in "pt":
                         continue
-                    for thing in bad(kind, puzzle):
+                    for thing in helper.some_of(bad(kind, puzzle), 9 if kind == "b" else 1):
                         handed = [good(told, puzzle) for told in kinds]
                         handed[at] = thing
                         self.assert_refused(REFUSALS[kind], function, *handed)
 
     def test_from_the_left(self):
         for puzzle in (ONE_PLACE, RING_AND_SWAP, FIVE):
-            for stand in few_bad("s", puzzle):
-                for word in few_bad("w", puzzle):
-                    self.assert_refused(NoStand, puzzles.behind, puzzle, stand, word)
+            for function, kinds in KINDS:
+                wrong = [at for at, kind in enumerate(kinds) if kind not in "pt"]
+                for first, other in itertools.combinations(wrong, 2):
+                    for thing in few_bad(kinds[first], puzzle):
+                        for behind in few_bad(kinds[other], puzzle):
+                            handed = [good(told, puzzle) for told in kinds]
+                            handed[first], handed[other] = thing, behind
+                            self.assert_refused(REFUSALS[kinds[first]], function, *handed)
         self.assert_refused(NoStand, puzzles.behind, RING, "x", (1, 2, 0))
         self.assert_refused(NoWord, puzzles.behind, RING, (1, 0, 2), (1, 2, 0))
+        self.assert_refused(NoStand, halves.halves, RING, 1, (1, 2, 0))
+        self.assert_refused(NoStand, halves.net_paper, RING, None, None, None)
+        self.assert_refused(NoNumber, halves.net_paper, RING, (1, 2, 0), 5, None)
+        self.assert_refused(NoTable, steps.led_home, RING, (1, 2, 0), steps.step_table(RING))
+
+    def test_all_of_them_wrong(self):
+        for puzzle in (ONE_PLACE, RING_AND_SWAP, FIVE):
+            for function, kinds in KINDS:
+                wrong = [kind for kind in kinds if kind not in "pt"]
+                for thing in (None, True, False, [], {}, (), "?", -1, 10, ((0,),), [{}], {"x": 1}):
+                    if wrong:
+                        handed = [puzzle if kind == "p" else thing for kind in kinds]
+                        self.assert_refused(REFUSALS[wrong[0]], function, *handed)
+
+    def test_numbers_at_the_ends(self):
+        for puzzle in (ONE_PLACE, RING_AND_SWAP, FIVE):
+            for function, kinds in KINDS:
+                for at, kind in enumerate(kinds):
+                    if kind not in NUMBERS:
+                        continue
+                    for number in range(-3, 13):
+                        handed = [good(told, puzzle) for told in kinds]
+                        handed[at] = number
+                        if 0 <= number <= int(kind):
+                            self.ask(function, *handed)
+                        else:
+                            self.assert_refused(NoNumber, function, *handed)
+
+    def test_truths_behind_the_same_number(self):
+        for function, kinds in KINDS:
+            for at, kind in enumerate(kinds):
+                if kind not in NUMBERS:
+                    continue
+                for number in (0, 1):
+                    handed = [good(told, FIVE) for told in kinds]
+                    handed[at] = number
+                    told = self.ask(function, *handed)
+                    handed[at] = bool(number)
+                    self.assert_refused(NoNumber, function, *handed)
+                    handed[at] = number
+                    self.assert_told(told, function, *handed)
+
+    def test_nothing_is_raised_for_a_thing_of_whatever_kind(self):
+        for puzzle in (ONE_PLACE, RING, RING_AND_SWAP, FIVE):
+            papers = [bounds.height_paper(puzzle), halves.net_paper(puzzle, puzzle[0][::-1], 0, 0),
+                      steps.step_table(puzzle), halves.halves(puzzle, puzzle[0], 2)]
+            for function, kinds in KINDS:
+                if "t" not in kinds:
+                    continue
+                boxed = [papers, tuple(papers), dict(enumerate(papers))]
+                for thing in helper.things() + helper.texts() + papers + boxed:
+                    told = self.ask(function, *[thing if kind == "t" else good(kind, puzzle) for kind in kinds])
+                    self.assertIn(told, (True, False) if function is not halves.net_bound else (None, 0))
 
     def test_truths_behind_the_same_stand_of_numbers(self):
-        for function in (ways.least_word, ways.far):
-            told = self.ask(function, RING_AND_SWAP, (1, 0, 2))
-            self.assert_refused(NoStand, function, RING_AND_SWAP, (True, False, 2))
-            self.assert_told(told, function, RING_AND_SWAP, (1, 0, 2))
+        for function, kinds in KINDS:
+            if "s" in kinds:
+                right = [(1, 0, 2) if kind == "s" else good(kind, RING_AND_SWAP) for kind in kinds]
+                wrong = [(True, False, 2) if kind == "s" else good(kind, RING_AND_SWAP) for kind in kinds]
+                told = self.ask(function, *right)
+                self.assert_refused(NoStand, function, *wrong)
+                self.assert_told(told, function, *right)
 
     def test_a_stand_that_is_not_come_to_is_not_refused(self):
         self.assert_told((1, 0, 2), puzzles.behind, RING, (1, 0, 2), "")
+        for function, kinds in KINDS:
+            if "s" in kinds:
+                self.ask(function, *[(1, 0, 2) if kind == "s" else good(kind, RING) for kind in kinds])
         self.assert_told(None, ways.least_word, RING, (1, 0, 2))
+        self.assert_told(None, halves.met_word, RING, (1, 0, 2), 4)
+        self.assert_told(None, steps.led_home, RING, steps.step_table(RING), (1, 0, 2))
 
     def test_letters_of_deeds_that_the_puzzle_does_not_have(self):
-        for function in (puzzles.deed_of, puzzles.back_of, puzzles.plain):
+        for function, kinds in KINDS:
             for puzzle, word in ((RING, "y"), (RING, "Y"), (RING, "xyY"), (RING_AND_SWAP, "z"), (RING_AND_SWAP, "xZ")):
-                self.assert_refused(NoWord, function, puzzle, word)
+                if "w" in kinds:
+                    handed = [word if kind == "w" else good(kind, puzzle) for kind in kinds]
+                    self.assert_refused(NoWord, function, *handed)
 
 
 class NothingIsChanged(helper.Case):
 
     def all_answers(self, puzzle):
-        stand = puzzle[0]
-        return [puzzles.home(puzzle), puzzles.behind(puzzle, stand, "xX"), puzzles.deed_of(puzzle, "x"),
-                puzzles.back_of(puzzle, "xx"), puzzles.plain(puzzle, "xxX"), texts.show(puzzle),
-                texts.read(texts.show(puzzle)), ways.reached(puzzle), ways.least_word(puzzle, stand),
-                ways.far(puzzle, stand), ways.counts(puzzle), ways.farthest(puzzle), ways.words(puzzle)]
+        told = [self.ask(function, *[good(kind, puzzle) for kind in kinds]) for function, kinds in KINDS]
+        return told + [self.ask(texts.read, texts.show(puzzle))]
 
     def test_told_lists_and_dicts_are_the_askers_own(self):
         for puzzle in helper.few_puzzles():
-            wanted = self.all_answers(puzzle)
-            stands, many, told = ways.reached(puzzle), ways.counts(puzzle), ways.words(puzzle)
-            stands.reverse()
-            stands.append((9, 9))
-            many[0] = 77
-            many.append(5)
-            for stand in list(told):
-                told[stand] = "changed"
-            told[(9, 9)] = "new"
-            self.assert_same(self.all_answers(puzzle), wanted, puzzle)
-            ways.reached(puzzle).clear()
-            ways.counts(puzzle).clear()
-            ways.words(puzzle).clear()
-            self.assert_same(self.all_answers(puzzle), wanted, puzzle)
+            told = self.all_answers(puzzle)
+            wanted = copy.deepcopy(told)
+            for _ in range(2):
+                spoil(told)
+                told = self.all_answers(puzzle)
+                self.assert_same(told, wanted, puzzle)
 
     def test_told_lists_and_dicts_are_new_each_time(self):
-        for function in (ways.reached, ways.counts, ways.words):
-            self.assertIsNot(function(FIVE), function(FIVE))
+        for puzzle in (ONE_PLACE, RING, RING_AND_SWAP, FIVE):
+            for function, kinds in KINDS:
+                handed = [good(kind, puzzle) for kind in kinds]
+                told = [function(*handed), function(*handed), function(*handed)]
+                held = boxes(told)[:-1] + boxes(handed)[:-1]
+                self.assertEqual(len({id(box) for box in held}), len(held), function.__name__)
+                self.assertEqual(len(boxes(told)) > 1, function in LISTS, function.__name__)
 
-    def test_a_told_list_stays_as_it_was_when_another_is_asked_for(self):
-        for function in (ways.reached, ways.counts, ways.words):
-            told = function(RING_AND_SWAP)
-            wanted = function(RING_AND_SWAP)
-            for puzzle in helper.few_puzzles():
-                function(puzzle)
-            self.assert_same(told, wanted)
+    def test_an_answer_stays_as_it_was_when_another_is_asked_for(self):
+        told = self.all_answers(RING_AND_SWAP)
+        wanted = copy.deepcopy(told)
+        for puzzle in helper.few_puzzles():
+            self.all_answers(puzzle)
+        self.assert_same(told, wanted)
 
     def test_the_same_asked_again_has_the_same_answer(self):
         rows = helper.few_puzzles()
@@ -145,6 +249,11 @@ class NothingIsChanged(helper.Case):
         wanted = self.all_answers(FIVE)
         for function, kinds in KINDS:
             self.assert_refused(NoPuzzle, function, *[[FIVE] for _ in kinds])
+            for at, kind in enumerate(kinds):
+                if kind not in "pt":
+                    handed = [good(told, FIVE) for told in kinds]
+                    handed[at] = [FIVE]
+                    self.assert_refused(REFUSALS[kind], function, *handed)
         self.assert_refused(NoText, texts.read, "10234 12340 x")
         self.assert_same(self.all_answers(FIVE), wanted)
 
