@@ -1,4 +1,4 @@
-"""Deeds by themselves: which things are deeds, and how deeds are done and undone."""
+"""Deeds by themselves: which things are deeds, and how deeds are done, undone and turned."""
 
 MOST_PLACES = 5
 
@@ -37,6 +37,12 @@ def done(stand, deed):
 def undoing(deed):
     """Tell the back of a deed."""
     return tuple([deed.index(place) for place in range(len(deed))])
+
+
+def turned_by(stand, deed):
+    """Tell the stand that comes from home by a deed, then the stand as a deed, then the deed's back."""
+    # From home the deed leads to itself.
+    return done(done(deed, stand), undoing(deed))
 
 
 def moved_places(deed):

@@ -10,12 +10,12 @@ FIGURES = "01234"
 def show(puzzle):
     """Write a puzzle: its deeds by their figures, a blank between each two."""
     need_puzzle(puzzle)
-    return " ".join([deed_text(deed) for deed in puzzle])
+    return " ".join([figures_of(deed) for deed in puzzle])
 
 
-def deed_text(deed):
-    """Write a deed by the figures of its numbers."""
-    return "".join([FIGURES[number] for number in deed])
+def figures_of(numbers):
+    """Write numbers from 0 to 4 by their figures, nothing between them."""
+    return "".join([FIGURES[number] for number in numbers])
 
 
 def read(text):

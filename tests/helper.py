@@ -113,6 +113,13 @@ def ball(puzzle, stand, most):
     return found
 
 
+def turned_plainly(puzzle, stand, word):
+    """The stand that comes from home by the word, then the stand as a deed, then the word's back."""
+    now = walk(puzzle, start_of(puzzle), word)
+    now = tuple(now[place] for place in stand)
+    return walk(puzzle, now, word[::-1].swapcase())
+
+
 def moved_many(stand):
     return sum(1 for place, number in enumerate(stand) if place != number)
 
@@ -253,6 +260,17 @@ def no_words(puzzle):
     for letter in SMALL + GREAT:
         if letter not in letters(puzzle):
             found.extend([letter, "x" + letter, letter + "X", "xxxxxxxxxxx" + letter])
+    return found
+
+
+def no_word_lists(puzzle):
+    """Things that are no list of one to three words of the puzzle."""
+    found = things() + texts() + ["", "x", "xX", puzzle, start_of(puzzle), [], ("",), ("x",), ("x", "X"), {0: "x"},
+                                  {"x": "x"}, {"": ""}, [()], [None], [["x"]], [("x",)], [{}], [True], [False], [0]]
+    found = [thing for thing in found if not is_in(thing, [["x", "X"], [""], ["x"]])]
+    found.extend([["x"] * many for many in (4, 5, 6, 12)] + [[""] * 4, ["", "x", "X", ""], ["x", "x", "x", None]])
+    for word in no_words(puzzle):
+        found.extend([[word], ["x", word], [word, ""], ["", "x", word], ["x", word, "X"], [word, "x", "x"]])
     return found
 
 

@@ -19,6 +19,10 @@ INTERFACE = {
     "halves": ("halves", "met_word", "net_bound", "net_paper"),
     "little": ("moved", "exchange", "turned", "rings", "little_word", "learned"),
     "steps": ("step_places", "is_step_table", "step_table", "led_home", "most_letters"),
+    "orders": ("order", "power", "turned_stand", "lot", "turning_word", "can_exchange", "middle"),
+    "places": ("place_lots", "is_held_parting", "held_partings", "joining", "keepers"),
+    "changes": ("renamed", "with_deed", "without", "beside", "of_words"),
+    "desk": ("Desk",),
 }
 LIBRARY = ("heapq", "math", "itertools", "collections", "__future__")
 
@@ -42,6 +46,11 @@ class Form(unittest.TestCase):
             for name in told:
                 self.assertIn(name, defined, file)
                 self.assertTrue(callable(getattr(module, name)), name)
+
+    def test_the_method_of_the_desk_stands_in_the_body_of_its_class(self):
+        rows = {row.name: row for row in ast.parse(text_of("desk.py")).body if isinstance(row, ast.ClassDef)}
+        methods = {row.name: row for row in rows["Desk"].body if isinstance(row, ast.FunctionDef)}
+        self.assertEqual([told.arg for told in methods["say"].args.args], ["self", "line"])
 
     def test_the_folder_has_only_files_of_plain_names(self):
         self.assertIn("__init__.py", names())
